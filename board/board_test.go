@@ -1,0 +1,23 @@
+package board
+
+import "testing"
+
+func TestNamesAndSquares(t *testing.T) {
+	for square := range 64 {
+		want := string("abcdefgh"[square%8]) + string("12345678"[square/8])
+		if name := Name(square); name != want {
+			t.Errorf("Name(%d) = %q, want %q", square, name, want)
+		}
+		if n, ok := Square(want); n != square || !ok {
+			t.Errorf("Square(%q) = %d, %t", want, n, ok)
+		}
+	}
+}
+
+func TestNoSquare(t *testing.T) {
+	for _, name := range []string{"", "a", "1", "a0", "a9", "`1", "i1", "A1", "1a", "a1 ", " a1", "a11", "é"} {
+		if n, ok := Square(name); n != 0 || ok {
+			t.Errorf("Square(%q) = %d, %t", name, n, ok)
+		}
+	}
+}

@@ -1,0 +1,102 @@
+// Package rook: legal moves of chess, found in two ways: see DOC.md.
+package rook
+
+import (
+	"rook/api"
+	"rook/notation"
+	"rook/position"
+	"rook/sets"
+)
+
+// Parse reads a position (P3).
+func Parse(fen string) (api.Position, api.Errno) {
+	p, ok := notation.Read(fen)
+	if !ok {
+		return api.Position{}, api.ErrForm
+	}
+	if !position.CanBe(p) {
+		return api.Position{}, api.ErrPosition
+	}
+	return p, api.OK
+}
+
+// Format writes a position (P3).
+func Format(p api.Position) (string, api.Errno) {
+	if !position.CanBe(p) {
+		return "", api.ErrPosition
+	}
+	return notation.Write(p), api.OK
+}
+
+// Reach tells where a piece reaches (P4).
+func Reach(kind int, square int, taken uint64) (uint64, api.Errno) {
+	if kind < api.WhitePawn || kind > api.King || square < 0 || square > 63 {
+		return 0, api.ErrSquare
+	}
+	return uint64(sets.Reach(kind, square, sets.Set(taken))), api.OK
+}
+
+// Moves tells the legal moves (P5).
+func Moves(fen string, way int) ([]string, api.Errno) {
+	_, e := Parse(fen)
+	return nil, e
+}
+
+// Play makes a move (P6).
+func Play(fen string, move string) (string, api.Errno) {
+	_, e := Parse(fen)
+	return "", e
+}
+
+// Look tells how it stands (P7).
+func Look(fen string) (api.State, api.Errno) {
+	_, e := Parse(fen)
+	return api.State{}, e
+}
+
+// Key is the number of a position (P8).
+func Key(fen string) (uint64, api.Errno) {
+	_, e := Parse(fen)
+	return 0, e
+}
+
+// Divide counts how games may go on behind each move (P9).
+func Divide(fen string, depth int, way int) ([]api.Count, api.Errno) {
+	_, e := Parse(fen)
+	return nil, e
+}
+
+// Cache remembers counts.
+type Cache struct{}
+
+// New makes a cache (P10).
+func New(slots int) (*Cache, api.Errno) { return nil, api.OK }
+
+// Perft counts how games may go on (P10).
+func (c *Cache) Perft(fen string, depth int, way int) (uint64, api.Errno) {
+	_, e := Parse(fen)
+	return 0, e
+}
+
+// Magic tells whether a factor is magic (P11).
+func Magic(kind int, square int, factor uint64, bits int) (bool, api.Errno) { return false, api.OK }
+
+// Find looks for a factor that is magic (P11).
+func Find(kind int, square int, seed uint64, tries int) (uint64, int, api.Errno) {
+	return 0, 0, api.OK
+}
+
+// Short is a move in short notation (P12).
+func Short(fen string, move string) (string, api.Errno) {
+	_, e := Parse(fen)
+	return "", e
+}
+
+// Long reads a move in short notation (P12).
+func Long(fen string, short string) (string, api.Errno) {
+	_, e := Parse(fen)
+	return "", e
+}
+
+// Lab does what the lines of a script say (P13).
+func Lab(slots int, script string) ([]string, api.Errno) { return nil, api.OK }
