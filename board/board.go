@@ -1,6 +1,8 @@
 // Package board: the names of squares and the letters of men, which all other packages speak of.
 package board
 
+import "bytes"
+
 // Letters are those of the men. Their order is also that of the sets in package sets.
 const Letters = "PNBRQKpnbrqk"
 
@@ -19,3 +21,15 @@ func Square(name string) (int, bool) {
 	}
 	return int(name[0]-'a') + 8*int(name[1]-'1'), true
 }
+
+// King is the square of a side's king, who is there in every position that can be.
+func King(squares [64]byte, isWhite bool) int {
+	letter := byte('k')
+	if isWhite {
+		letter = 'K'
+	}
+	return bytes.IndexByte(squares[:], letter)
+}
+
+// IsPawn tells whether a letter is that of a pawn of either side.
+func IsPawn(letter byte) bool { return letter == 'P' || letter == 'p' }

@@ -21,3 +21,19 @@ func TestNoSquare(t *testing.T) {
 		}
 	}
 }
+
+func TestKing(t *testing.T) {
+	var squares [64]byte
+	squares[0], squares[7], squares[63] = 'Q', 'K', 'k'
+	if white, black := King(squares, true), King(squares, false); white != 7 || black != 63 {
+		t.Errorf("kings on %d and %d", white, black)
+	}
+}
+
+func TestIsPawn(t *testing.T) {
+	for letter := range 256 {
+		if want := letter == 'P' || letter == 'p'; IsPawn(byte(letter)) != want {
+			t.Errorf("byte %d: want %t", letter, want)
+		}
+	}
+}

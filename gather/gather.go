@@ -1,7 +1,11 @@
 // Package gather: what is the same for iterators and lists of several kinds of things.
 package gather
 
-import "iter"
+import (
+	"cmp"
+	"iter"
+	"slices"
+)
 
 // Count tells how many things an iterator yields.
 func Count[T any](things iter.Seq[T]) int {
@@ -10,4 +14,45 @@ func Count[T any](things iter.Seq[T]) int {
 		n++
 	}
 	return n
+}
+
+// Has tells whether an iterator yields this thing. It asks for no more of them once it is there.
+func Has[T comparable](things iter.Seq[T], wanted T) bool {
+	for thing := range things {
+		if thing == wanted {
+			return true
+		}
+	}
+	return false
+}
+
+// Only yields those of the things that fit.
+func Only[T any](things iter.Seq[T], fits func(T) bool) iter.Seq[T] {
+	return func(yield func(T) bool) {
+		for thing := range things {
+			if fits(thing) && !yield(thing) {
+				return
+			}
+		}
+	}
+}
+
+// Chain yields the things of one iterator after those of another.
+func Chain[T any](parts ...iter.Seq[T]) iter.Seq[T] {
+	return func(yield func(T) bool) {
+		for _, things := range parts {
+			for thing := range things {
+				if !yield(thing) {
+					return
+				}
+			}
+		}
+	}
+}
+
+// InOrder is a new list of the things that an iterator yields, in rising order of their keys.
+func InOrder[T any, K cmp.Ordered](things iter.Seq[T], key func(T) K) []T {
+	return slices.SortedFunc(things, func(a, b T) int {
+		return cmp.Compare(key(a), key(b))
+	})
 }

@@ -140,13 +140,20 @@ func wildPosition(source *rand.Rand) api.Position {
 	return p
 }
 
-// answers are those of all calls that P3 and P4 speak of, to the same questions.
+// answers are those of all calls that P3 to P7 speak of, to the same questions.
 func answers() []any {
 	var all []any
 	for _, text := range wildTexts {
 		p, e := rook.Parse(text)
 		back, f := rook.Format(p)
-		all = append(all, p, e, back, f)
+		state, g := rook.Look(text)
+		letters, h := rook.Moves(text, api.Letters)
+		sets, i := rook.Moves(text, api.Sets)
+		all = append(all, p, e, back, f, state, g, letters, h, sets, i)
+		for _, move := range []string{"e2e4", "e1g1", "e8c8", "e4d3", "x"} {
+			after, e := rook.Play(text, move)
+			all = append(all, after, e)
+		}
 	}
 	for kind := range 9 {
 		for square := range 66 {

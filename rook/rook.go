@@ -3,9 +3,12 @@ package rook
 
 import (
 	"rook/api"
+	"rook/game"
+	"rook/moves"
 	"rook/notation"
 	"rook/position"
 	"rook/sets"
+	"rook/ways"
 )
 
 // Parse reads a position (P3).
@@ -38,20 +41,44 @@ func Reach(kind int, square int, taken uint64) (uint64, api.Errno) {
 
 // Moves tells the legal moves (P5).
 func Moves(fen string, way int) ([]string, api.Errno) {
-	_, e := Parse(fen)
-	return nil, e
+	p, e := Parse(fen)
+	if e != api.OK {
+		return nil, e
+	}
+	w, ok := ways.Of(way)
+	if !ok {
+		return nil, api.ErrWay
+	}
+	var texts []string
+	for _, m := range game.Moves(w, p) {
+		texts = append(texts, m.Text())
+	}
+	return texts, api.OK
 }
 
 // Play makes a move (P6).
 func Play(fen string, move string) (string, api.Errno) {
-	_, e := Parse(fen)
-	return "", e
+	p, e := Parse(fen)
+	if e != api.OK {
+		return "", e
+	}
+	m, ok := moves.Read(move)
+	if !ok {
+		return "", api.ErrForm
+	}
+	if !game.IsLegal(ways.Quick(), p, m) {
+		return "", api.ErrIllegal
+	}
+	return notation.Write(position.After(p, m)), api.OK
 }
 
 // Look tells how it stands (P7).
 func Look(fen string) (api.State, api.Errno) {
-	_, e := Parse(fen)
-	return api.State{}, e
+	p, e := Parse(fen)
+	if e != api.OK {
+		return api.State{}, e
+	}
+	return game.Look(ways.Quick(), p), api.OK
 }
 
 // Key is the number of a position (P8).

@@ -39,6 +39,15 @@ func begin(isWhite bool) int {
 	return black
 }
 
+// kinds are those of a side's men, in the order of Men.
+func kinds(isWhite bool) [6]int {
+	pawn := api.BlackPawn
+	if isWhite {
+		pawn = api.WhitePawn
+	}
+	return [6]int{pawn, api.Knight, api.Bishop, api.Rook, api.Queen, api.King}
+}
+
 // Side is where the men of a side stand.
 func (m Men) Side(isWhite bool) Set {
 	var all Set
@@ -57,15 +66,16 @@ func (m Men) Kings(isWhite bool) Set { return m[begin(isWhite)+5] }
 // Attacked tells whether a side attacks a square: whether from there a piece would reach one of its own kind. A pawn is seen by a pawn of the other side, as these two look towards one another.
 func (m Men) Attacked(square int, byWhite bool) bool {
 	taken := m.Side(true) | m.Side(false)
-	pawn := api.WhitePawn
-	if byWhite {
-		pawn = api.BlackPawn
-	}
-	kinds := [6]int{pawn, api.Knight, api.Bishop, api.Rook, api.Queen, api.King}
-	for i, kind := range kinds {
+	for i, kind := range kinds(!byWhite) {
 		if Reach(kind, square, taken)&m[begin(byWhite)+i] != 0 {
 			return true
 		}
 	}
 	return false
+}
+
+// Attacked tells of a board whether a side attacks a square.
+func Attacked(squares [64]byte, square int, byWhite bool) bool {
+	men, _ := Lay(squares)
+	return men.Attacked(square, byWhite)
 }
