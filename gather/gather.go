@@ -7,13 +7,23 @@ import (
 	"slices"
 )
 
+// Number is of a kind that can be added up.
+type Number interface {
+	~int | ~uint64
+}
+
+// Sum adds up what the things that an iterator yields are worth.
+func Sum[T any, N Number](things iter.Seq[T], worth func(T) N) N {
+	var sum N
+	for thing := range things {
+		sum += worth(thing)
+	}
+	return sum
+}
+
 // Count tells how many things an iterator yields.
 func Count[T any](things iter.Seq[T]) int {
-	n := 0
-	for range things {
-		n++
-	}
-	return n
+	return Sum(things, func(T) int { return 1 })
 }
 
 // Has tells whether an iterator yields this thing. It asks for no more of them once it is there.

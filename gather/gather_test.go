@@ -22,6 +22,22 @@ func upTo(end int, asked *int) iter.Seq[int] {
 
 func isEven(n int) bool { return n%2 == 0 }
 
+// big is a kind of number of its own.
+type big uint64
+
+func TestSum(t *testing.T) {
+	length := func(text string) int { return len(text) }
+	if n := Sum(slices.Values([]string{}), length); n != 0 {
+		t.Errorf("of nothing: %d", n)
+	}
+	if n := Sum(slices.Values([]string{"a", "bcd", "ef"}), length); n != 6 {
+		t.Errorf("of three texts: %d", n)
+	}
+	if n := Sum(slices.Values([]int{1, 2, 3}), func(n int) big { return 1 << (60 + n) }); n != 14<<60 {
+		t.Errorf("of three big ones: %d", n)
+	}
+}
+
 func TestCount(t *testing.T) {
 	if n := Count(slices.Values([]string{})); n != 0 {
 		t.Errorf("of nothing: %d", n)

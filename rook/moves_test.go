@@ -174,19 +174,21 @@ func count(t *testing.T, fen string, depth, way int) int {
 	return sum
 }
 
-// The numbers are those that others have found for these positions.
+// knownCounts are those that others have found for these positions, to the depths 1 to 3.
+var knownCounts = []struct {
+	fen  string
+	want [3]int
+}{
+	{atFirst, [3]int{20, 400, 8902}},
+	{"r3k2r/p1ppqpb1/bn2pnp1/3PN3/1p2P3/2N2Q1p/PPPBBPPP/R3K2R w KQkq - 0 1", [3]int{48, 2039, 97862}},
+	{"8/2p5/3p4/KP5r/1R3p1k/8/4P1P1/8 w - - 0 1", [3]int{14, 191, 2812}},
+	{"r3k2r/Pppp1ppp/1b3nbN/nP6/BBP1P3/q4N2/Pp1P2PP/R2Q1RK1 w kq - 0 1", [3]int{6, 264, 9467}},
+	{"rnbq1k1r/pp1Pbppp/2p5/8/2B5/8/PPP1NnPP/RNBQK2R w KQ - 1 8", [3]int{44, 1486, 62379}},
+	{"r4rk1/1pp1qppp/p1np1n2/2b1p1B1/2B1P1b1/P1NP1N2/1PP1QPPP/R4RK1 w - - 0 10", [3]int{46, 2079, 89890}},
+}
+
 func TestP5P6CountsThatAreKnown(t *testing.T) {
-	for _, c := range []struct {
-		fen  string
-		want [3]int
-	}{
-		{atFirst, [3]int{20, 400, 8902}},
-		{"r3k2r/p1ppqpb1/bn2pnp1/3PN3/1p2P3/2N2Q1p/PPPBBPPP/R3K2R w KQkq - 0 1", [3]int{48, 2039, 97862}},
-		{"8/2p5/3p4/KP5r/1R3p1k/8/4P1P1/8 w - - 0 1", [3]int{14, 191, 2812}},
-		{"r3k2r/Pppp1ppp/1b3nbN/nP6/BBP1P3/q4N2/Pp1P2PP/R2Q1RK1 w kq - 0 1", [3]int{6, 264, 9467}},
-		{"rnbq1k1r/pp1Pbppp/2p5/8/2B5/8/PPP1NnPP/RNBQK2R w KQ - 1 8", [3]int{44, 1486, 62379}},
-		{"r4rk1/1pp1qppp/p1np1n2/2b1p1B1/2B1P1b1/P1NP1N2/1PP1QPPP/R4RK1 w - - 0 10", [3]int{46, 2079, 89890}},
-	} {
+	for _, c := range knownCounts {
 		for i, want := range c.want {
 			for _, way := range bothWays {
 				if got := count(t, c.fen, i+1, way); got != want {

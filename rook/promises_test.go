@@ -68,7 +68,7 @@ func expectNoughts(t *testing.T, call string, e api.Errno, results ...any) {
 }
 
 func TestP1NoTextMakesACallPanic(t *testing.T) {
-	cache, _ := rook.New(0)
+	cache, _ := rook.New(api.MaxSlots)
 	for _, text := range wildTexts {
 		p, e := rook.Parse(text)
 		expectNoughts(t, "Parse", e, p)
@@ -81,12 +81,12 @@ func TestP1NoTextMakesACallPanic(t *testing.T) {
 		for _, n := range wildNumbers {
 			moves, e := rook.Moves(text, n)
 			expectNoughts(t, "Moves", e, moves)
-			counts, e := rook.Divide(text, 1, n)
-			expectNoughts(t, "Divide", e, counts)
-			counts, e = rook.Divide(text, n, 3)
-			expectNoughts(t, "Divide", e, counts)
-			paths, e := cache.Perft(text, n, 3)
-			expectNoughts(t, "Perft", e, paths)
+			for _, m := range []int{-1, 1, 2, 3} {
+				counts, e := rook.Divide(text, m, n)
+				expectNoughts(t, "Divide", e, counts)
+				paths, e := cache.Perft(text, m, n)
+				expectNoughts(t, "Perft", e, paths)
+			}
 		}
 		for _, move := range []string{"", "e2e4", "e7e8q", "e1g1", "O-O", "Nf3", text} {
 			after, e := rook.Play(text, move)
@@ -109,10 +109,12 @@ func TestP1NoNumberMakesACallPanic(t *testing.T) {
 			for _, taken := range []uint64{0, 1, 1 << 63, ^uint64(0)} {
 				reached, e := rook.Reach(a, b, taken)
 				expectNoughts(t, "Reach", e, reached)
-				magic, e := rook.Magic(a, b, taken, 1)
-				expectNoughts(t, "Magic", e, magic)
-				factor, k, e := rook.Find(a, b, taken, 1)
-				expectNoughts(t, "Find", e, factor, k)
+				for _, c := range wildNumbers {
+					magic, e := rook.Magic(a, b, taken, c)
+					expectNoughts(t, "Magic", e, magic)
+					factor, k, e := rook.Find(a, b, taken, min(c, 99))
+					expectNoughts(t, "Find", e, factor, k)
+				}
 			}
 		}
 	}

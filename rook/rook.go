@@ -2,8 +2,14 @@
 package rook
 
 import (
+	"sync"
+
 	"rook/api"
+	"rook/count"
 	"rook/game"
+	"rook/key"
+	"rook/magic"
+	"rook/memory"
 	"rook/moves"
 	"rook/notation"
 	"rook/position"
@@ -33,7 +39,7 @@ func Format(p api.Position) (string, api.Errno) {
 
 // Reach tells where a piece reaches (P4).
 func Reach(kind int, square int, taken uint64) (uint64, api.Errno) {
-	if kind < api.WhitePawn || kind > api.King || square < 0 || square > 63 {
+	if kind < api.WhitePawn || kind > api.King || !isSquare(square) {
 		return 0, api.ErrSquare
 	}
 	return uint64(sets.Reach(kind, square, sets.Set(taken))), api.OK
@@ -83,35 +89,89 @@ func Look(fen string) (api.State, api.Errno) {
 
 // Key is the number of a position (P8).
 func Key(fen string) (uint64, api.Errno) {
-	_, e := Parse(fen)
-	return 0, e
+	p, e := Parse(fen)
+	if e != api.OK {
+		return 0, e
+	}
+	return key.Of(p), api.OK
 }
 
 // Divide counts how games may go on behind each move (P9).
 func Divide(fen string, depth int, way int) ([]api.Count, api.Errno) {
-	_, e := Parse(fen)
-	return nil, e
+	p, w, e := toCount(fen, depth, 1, way)
+	if e != api.OK {
+		return nil, e
+	}
+	return count.By(w, way, memory.New(0)).Divide(p, depth), api.OK
 }
 
-// Cache remembers counts.
-type Cache struct{}
+// toCount reads what Divide and Perft are given; they differ in the least depth.
+func toCount(fen string, depth, least, way int) (api.Position, ways.Way, api.Errno) {
+	p, e := Parse(fen)
+	if e != api.OK {
+		return api.Position{}, ways.Way{}, e
+	}
+	if depth < least || depth > api.MaxDepth {
+		return api.Position{}, ways.Way{}, api.ErrDepth
+	}
+	w, ok := ways.Of(way)
+	if !ok {
+		return api.Position{}, ways.Way{}, api.ErrWay
+	}
+	return p, w, api.OK
+}
+
+// Cache remembers counts. Those who ask it at the same time wait for one another.
+type Cache struct {
+	lock   sync.Mutex
+	memory memory.Memory
+}
 
 // New makes a cache (P10).
-func New(slots int) (*Cache, api.Errno) { return nil, api.OK }
+func New(slots int) (*Cache, api.Errno) {
+	if slots < 0 || slots > api.MaxSlots {
+		return nil, api.ErrSlots
+	}
+	return &Cache{memory: memory.New(slots)}, api.OK
+}
 
 // Perft counts how games may go on (P10).
 func (c *Cache) Perft(fen string, depth int, way int) (uint64, api.Errno) {
-	_, e := Parse(fen)
-	return 0, e
+	p, w, e := toCount(fen, depth, 0, way)
+	if e != api.OK {
+		return 0, e
+	}
+	c.lock.Lock()
+	defer c.lock.Unlock()
+	return count.By(w, way, c.memory).Paths(p, depth), api.OK
 }
 
 // Magic tells whether a factor is magic (P11).
-func Magic(kind int, square int, factor uint64, bits int) (bool, api.Errno) { return false, api.OK }
+func Magic(kind int, square int, factor uint64, bits int) (bool, api.Errno) {
+	if !isSlider(kind) || !isSquare(square) {
+		return false, api.ErrSquare
+	}
+	if bits < 1 || bits > magic.MaxBits {
+		return false, api.ErrTries
+	}
+	return magic.Is(kind, square, factor, bits), api.OK
+}
 
 // Find looks for a factor that is magic (P11).
 func Find(kind int, square int, seed uint64, tries int) (uint64, int, api.Errno) {
-	return 0, 0, api.OK
+	if !isSlider(kind) || !isSquare(square) {
+		return 0, 0, api.ErrSquare
+	}
+	if tries < 0 || tries > api.MaxTries {
+		return 0, 0, api.ErrTries
+	}
+	factor, k := magic.Find(kind, square, seed, tries)
+	return factor, k, api.OK
 }
+
+func isSlider(kind int) bool { return kind == api.Bishop || kind == api.Rook }
+
+func isSquare(square int) bool { return square >= 0 && square < 64 }
 
 // Short is a move in short notation (P12).
 func Short(fen string, move string) (string, api.Errno) {

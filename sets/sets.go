@@ -37,6 +37,15 @@ func (s Set) Squares() iter.Seq[int] {
 	}
 }
 
+// Subsets yields every set that has no squares but some of these: none of them first, all of them last. Subtracting the set from one of them adds 1 to it, where the bits between are carried over.
+func (s Set) Subsets() iter.Seq[Set] {
+	return func(yield func(Set) bool) {
+		for part := Set(0); yield(part) && part != s; {
+			part = (part - s) & s
+		}
+	}
+}
+
 // left and right cut off what would come in again at the other edge of the board.
 func (s Set) left() Set  { return s >> 1 &^ fileH }
 func (s Set) right() Set { return s << 1 &^ fileA }

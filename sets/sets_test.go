@@ -46,6 +46,32 @@ func TestSquaresCanBeGoneThroughAgain(t *testing.T) {
 	}
 }
 
+func TestSubsets(t *testing.T) {
+	for _, c := range []struct {
+		set  Set
+		want []Set
+	}{
+		{0, []Set{0}},
+		{1, []Set{0, 1}},
+		{1 << 63, []Set{0, 1 << 63}},
+		{1<<63 | 1<<5 | 1, []Set{0, 1, 1 << 5, 1<<5 | 1, 1 << 63, 1<<63 | 1, 1<<63 | 1<<5, 1<<63 | 1<<5 | 1}},
+	} {
+		if got := slices.Collect(c.set.Subsets()); !slices.Equal(got, c.want) {
+			t.Errorf("subsets of %x: %x, want %x", uint64(c.set), got, c.want)
+		}
+		var some []Set
+		for part := range c.set.Subsets() {
+			some = append(some, part)
+			if len(some) == 1 {
+				break
+			}
+		}
+		if !slices.Equal(some, c.want[:1]) {
+			t.Errorf("subsets of %x do not stop: %x", uint64(c.set), some)
+		}
+	}
+}
+
 func TestReachOfNoKindIsEmpty(t *testing.T) {
 	for _, kind := range []int{-1, 0, 8} {
 		if s := Reach(kind, 27, 0); s != 0 {
