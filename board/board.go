@@ -33,3 +33,6 @@ func King(squares [64]byte, isWhite bool) int {
 
 // IsPawn tells whether a letter is that of a pawn of either side.
 func IsPawn(letter byte) bool { return letter == 'P' || letter == 'p' }
+
+// IsKing tells whether a letter is that of a king of either side.
+func IsKing(letter byte) bool { return letter == 'K' || letter == 'k' }

@@ -30,10 +30,13 @@ func TestKing(t *testing.T) {
 	}
 }
 
-func TestIsPawn(t *testing.T) {
+func TestIsPawnAndIsKing(t *testing.T) {
 	for letter := range 256 {
 		if want := letter == 'P' || letter == 'p'; IsPawn(byte(letter)) != want {
-			t.Errorf("byte %d: want %t", letter, want)
+			t.Errorf("pawn: byte %d: want %t", letter, want)
+		}
+		if want := letter == 'K' || letter == 'k'; IsKing(byte(letter)) != want {
+			t.Errorf("king: byte %d: want %t", letter, want)
 		}
 	}
 }

@@ -14,9 +14,24 @@ func Moves(w ways.Way, p api.Position) []moves.Move {
 	return gather.InOrder(w.Moves(p), moves.Move.Text)
 }
 
+// Texts are those of the legal moves, in rising order.
+func Texts(w ways.Way, p api.Position) []string {
+	var texts []string
+	for _, m := range Moves(w, p) {
+		texts = append(texts, m.Text())
+	}
+	return texts
+}
+
 // IsLegal tells whether a move is one of the legal ones.
 func IsLegal(w ways.Way, p api.Position, m moves.Move) bool {
 	return gather.Has(w.Moves(p), m)
+}
+
+// CanMove tells whether there is any legal move. The way is asked for one alone.
+func CanMove(w ways.Way, p api.Position) bool {
+	_, found := gather.First(w.Moves(p))
+	return found
 }
 
 // Check tells whether the king of the side to move is attacked.

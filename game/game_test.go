@@ -45,6 +45,9 @@ func TestTheWayIsAsked(t *testing.T) {
 	if got := Moves(w, p); !slices.Equal(got, []moves.Move{a, c, b}) {
 		t.Errorf("Moves: %v", got)
 	}
+	if got := Texts(w, p); !slices.Equal(got, []string{"a2a3", "b1a3", "b1c3"}) {
+		t.Errorf("Texts: %q", got)
+	}
 	if got := Look(w, p); got != (api.State{Check: true, Moves: 3}) {
 		t.Errorf("Look: %+v", got)
 	}
@@ -59,6 +62,13 @@ func TestTheWayIsAsked(t *testing.T) {
 	}
 	if IsLegal(w, p, moves.Move{From: 8, To: 16, Turn: 'q'}) {
 		t.Error("a move that turns is taken for one that does not")
+	}
+	asked = 0
+	if !CanMove(w, p) || asked != 1 {
+		t.Errorf("that there is a move is known behind %d", asked)
+	}
+	if CanMove(told(true, &asked), p) {
+		t.Error("without moves there is one")
 	}
 }
 

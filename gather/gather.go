@@ -26,14 +26,19 @@ func Count[T any](things iter.Seq[T]) int {
 	return Sum(things, func(T) int { return 1 })
 }
 
+// First is the first thing that an iterator yields, which is asked for no more; false, if it yields none.
+func First[T any](things iter.Seq[T]) (T, bool) {
+	for thing := range things {
+		return thing, true
+	}
+	var none T
+	return none, false
+}
+
 // Has tells whether an iterator yields this thing. It asks for no more of them once it is there.
 func Has[T comparable](things iter.Seq[T], wanted T) bool {
-	for thing := range things {
-		if thing == wanted {
-			return true
-		}
-	}
-	return false
+	_, found := First(Only(things, func(thing T) bool { return thing == wanted }))
+	return found
 }
 
 // Only yields those of the things that fit.

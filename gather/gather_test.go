@@ -50,6 +50,16 @@ func TestCount(t *testing.T) {
 	}
 }
 
+func TestFirst(t *testing.T) {
+	asked := 0
+	if n, ok := First(Only(upTo(10, &asked), func(n int) bool { return n > 2 })); n != 3 || !ok || asked != 4 {
+		t.Errorf("%d, %t, asked for %d", n, ok, asked)
+	}
+	if text, ok := First(slices.Values([]string{})); text != "" || ok {
+		t.Errorf("of nothing: %q, %t", text, ok)
+	}
+}
+
 func TestHas(t *testing.T) {
 	asked := 0
 	if !Has(upTo(10, &asked), 3) || asked != 4 {

@@ -53,8 +53,6 @@ func isMan(letter byte, isWhite bool) bool {
 	return letter >= 'a' && letter <= 'z'
 }
 
-func isKing(letter byte) bool { return letter == 'K' || letter == 'k' }
-
 // next is the square a step away; false, if the step leads off the board.
 func next(square int, s step) (int, bool) {
 	file, rank := square%8+s.files, square/8+s.ranks

@@ -52,7 +52,7 @@ func targets(p *api.Position, from int) iter.Seq[int] {
 	switch {
 	case board.IsPawn(p.Board[from]):
 		return gather.Chain(attacked, ahead(p, from))
-	case isKing(p.Board[from]):
+	case board.IsKing(p.Board[from]):
 		return gather.Chain(attacked, castlings(p, from))
 	}
 	return attacked
@@ -127,9 +127,9 @@ func Place(p api.Position, m moves.Move) [64]byte {
 	switch {
 	case board.IsPawn(letter) && m.To == p.Behind:
 		squares[m.From/8*8+m.To%8] = board.Empty
-	case isKing(letter) && m.To == m.From+2:
+	case board.IsKing(letter) && m.To == m.From+2:
 		squares[m.From+1], squares[m.From+3] = squares[m.From+3], board.Empty
-	case isKing(letter) && m.To == m.From-2:
+	case board.IsKing(letter) && m.To == m.From-2:
 		squares[m.From-1], squares[m.From-4] = squares[m.From-4], board.Empty
 	}
 	return squares

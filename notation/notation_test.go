@@ -64,6 +64,21 @@ func TestCastlings(t *testing.T) {
 	}
 }
 
+func TestNumbers(t *testing.T) {
+	for word, want := range map[string]int{"0": 0, "7": 7, "10": 10, "123456789": 123456789, "999999999": 999999999} {
+		for digits := range 10 {
+			if n, ok := Number(word, digits); ok != (digits >= len(word)) || ok && n != want {
+				t.Errorf("%q with %d digits: %d, %t", word, digits, n, ok)
+			}
+		}
+	}
+	for _, wrong := range []string{"", "00", "012345678", "1234567890", "-1", "+1", "1_0", "1 ", " 1", "x"} {
+		if n, ok := Number(wrong, 9); ok {
+			t.Errorf("%q: %d", wrong, n)
+		}
+	}
+}
+
 func TestClocks(t *testing.T) {
 	for word, want := range map[string]int{"0": 0, "1": 1, "10": 10, "9999": 9999, "65535": 65535} {
 		if n, ok := readClock(word); n != want || !ok {

@@ -96,7 +96,13 @@ func readBehind(word string) (int, bool) {
 }
 
 func readClock(word string) (int, bool) {
-	if len(word) < 1 || len(word) > 5 || len(word) > 1 && word[0] == '0' {
+	n, ok := Number(word, 5)
+	return n, ok && n <= api.MaxClock
+}
+
+// Number reads a number in decimal; false, if the word has more than so many digits (nine at most), or a 0 ahead of others.
+func Number(word string, digits int) (int, bool) {
+	if len(word) < 1 || len(word) > digits || len(word) > 1 && word[0] == '0' {
 		return 0, false
 	}
 	n := 0
@@ -106,5 +112,5 @@ func readClock(word string) (int, bool) {
 		}
 		n = 10*n + int(word[i]-'0')
 	}
-	return n, n <= api.MaxClock
+	return n, true
 }

@@ -5,9 +5,11 @@ import (
 	"sync"
 
 	"rook/api"
+	"rook/brief"
 	"rook/count"
 	"rook/game"
 	"rook/key"
+	"rook/lab"
 	"rook/magic"
 	"rook/memory"
 	"rook/moves"
@@ -55,27 +57,32 @@ func Moves(fen string, way int) ([]string, api.Errno) {
 	if !ok {
 		return nil, api.ErrWay
 	}
-	var texts []string
-	for _, m := range game.Moves(w, p) {
-		texts = append(texts, m.Text())
-	}
-	return texts, api.OK
+	return game.Texts(w, p), api.OK
 }
 
 // Play makes a move (P6).
 func Play(fen string, move string) (string, api.Errno) {
-	p, e := Parse(fen)
+	p, m, e := toMove(fen, move)
 	if e != api.OK {
 		return "", e
 	}
+	return notation.Write(position.After(p, m)), api.OK
+}
+
+// toMove reads what Play and Short are given.
+func toMove(fen, move string) (api.Position, moves.Move, api.Errno) {
+	p, e := Parse(fen)
+	if e != api.OK {
+		return api.Position{}, moves.Move{}, e
+	}
 	m, ok := moves.Read(move)
 	if !ok {
-		return "", api.ErrForm
+		return api.Position{}, moves.Move{}, api.ErrForm
 	}
 	if !game.IsLegal(ways.Quick(), p, m) {
-		return "", api.ErrIllegal
+		return api.Position{}, moves.Move{}, api.ErrIllegal
 	}
-	return notation.Write(position.After(p, m)), api.OK
+	return p, m, api.OK
 }
 
 // Look tells how it stands (P7).
@@ -175,15 +182,31 @@ func isSquare(square int) bool { return square >= 0 && square < 64 }
 
 // Short is a move in short notation (P12).
 func Short(fen string, move string) (string, api.Errno) {
-	_, e := Parse(fen)
-	return "", e
+	p, m, e := toMove(fen, move)
+	if e != api.OK {
+		return "", e
+	}
+	return brief.Write(ways.Quick(), p, m), api.OK
 }
 
 // Long reads a move in short notation (P12).
 func Long(fen string, short string) (string, api.Errno) {
-	_, e := Parse(fen)
-	return "", e
+	p, e := Parse(fen)
+	if e != api.OK {
+		return "", e
+	}
+	m, ok := brief.Read(ways.Quick(), p, short)
+	if !ok {
+		return "", api.ErrIllegal
+	}
+	return m.Text(), api.OK
 }
 
 // Lab does what the lines of a script say (P13).
-func Lab(slots int, script string) ([]string, api.Errno) { return nil, api.OK }
+func Lab(slots int, script string) ([]string, api.Errno) {
+	c, e := New(slots)
+	if e != api.OK {
+		return nil, e
+	}
+	return lab.Run(c.memory, script), api.OK
+}
